@@ -1,0 +1,1 @@
+"""Traylate: clerks whose settings wait in trays."""
