@@ -1,11 +1,10 @@
 import random
 import unittest
 
-from helper import KINDS, make, stand
+from helper import KINDS, TOP, make, some_program, stand
 from traylate.errors import NoMove
 from traylate.machines import Machine
 
-TOP = 10 ** 60
 SET_LOOK = (("put", 0, 4), ("set", 3, 0), ("look", 1, 5), ("set", 5, 0), ("clear",), ("swap", 2, 3))
 # Goes round for ever: register 3 always has 0.
 ROUND = (("add", 0, 1), ("set", 3, 0), ("look", 1, 5), ("put", 1, 1), ("set", 5, 0), ("look", 2, 3), ("skip", 3, 0))
@@ -102,23 +101,6 @@ class Plainest:
             "deeds": self.deeds,
             "over": self.over,
         }
-
-
-def some_step(chance, length):
-    reg, other, name = chance.randrange(4), chance.randrange(4), chance.choice([0, 1, 2, 11])
-    number = chance.choice([0, 0, 1, 2, TOP // 2, TOP - 1])
-    return chance.choice([
-        ("put", reg, number), ("add", reg, other), ("set", name, reg), ("set", name, reg), ("look", reg, name),
-        ("look", reg, name), ("swap", reg, name), ("clear",), ("skip", reg, chance.randrange(length + 1)),
-    ])
-
-
-def some_program(chance):
-    parts = []
-    for clerk in range(chance.randrange(1, 5)):
-        length = chance.randrange(13)
-        parts.append(tuple(some_step(chance, length) for place in range(length)))
-    return tuple(parts)
 
 
 class SettleTest(unittest.TestCase):

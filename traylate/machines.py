@@ -143,6 +143,12 @@ class Machine:
     def deeds(self):
         return list(self.acts)
 
+    def deeds_done(self):
+        return len(self.acts)
+
+    def deed_at(self, number):
+        return self.acts[number]
+
     def over(self, name):
         return list(self.comers[name])
 
