@@ -1,12 +1,11 @@
 import copy
 import unittest
 
-from helper import KINDS, board_with, make, stand
+from helper import BAD_CLERKS, BAD_PROGRAMS, CLEAR, KINDS, board_with, make, stand
 from traylate.errors import NoClerks, NoKind, NoMove, NoProgram
 from traylate.machines import Machine
 
 TOP = 10 ** 60
-CLEAR = ("clear",)
 SET3 = (("put", 0, 7), ("set", 3, 0))
 
 
@@ -50,21 +49,14 @@ class FirstStandTest(unittest.TestCase):
         self.assertEqual(Machine(kind="name", program=(SET3,)).kind, "name")
 
     def test_no_clerks(self):
-        for bad in [None, 0, "", "clerk", [], [()], (), ((),) * 5, ([],), (None,), ((), [CLEAR])]:
+        for bad in BAD_CLERKS:
             for kind in KINDS + ["", None]:
                 with self.subTest(bad=bad, kind=kind):
                     self.refused(NoClerks, bad, kind)
             self.refused(NoClerks, bad)
 
     def test_no_program(self):
-        cases = [
-            (((("put", 4, 0),),), 0, 0),
-            (((), (CLEAR, None)), 1, 1),
-            (((CLEAR,), (CLEAR,), (CLEAR, ("skip", 0, 3))), 2, 1),
-            (((CLEAR,) * 121, (None,)), 0, 120),
-            (((), (), (), (CLEAR, CLEAR, ["clear"])), 3, 2),
-        ]
-        for bad, clerk, place in cases:
+        for bad, clerk, place in BAD_PROGRAMS:
             for kind in KINDS + ["rows", None]:
                 with self.subTest(bad=bad, kind=kind):
                     error = self.refused(NoProgram, bad, kind)
